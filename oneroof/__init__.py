@@ -1,0 +1,1 @@
+"""Oneroof: many houses' books read as one house's book."""

@@ -1,0 +1,93 @@
+"""The interface: names, arguments and defaults, each where the document lists it."""
+
+import inspect
+import unittest
+
+from oneroof import errors, parts, words, worlds
+
+FUNCTIONS = {
+    worlds: {
+        "need_house": "(world, name)",
+        "need_coin": "(world, name)",
+        "need_day": "(day)",
+        "need_thing": "(world, thing)",
+        "need_deed": "(world, deed)",
+    },
+    words: {
+        "deed_text": "(deed)",
+        "read_deed": "(world, line)",
+    },
+}
+
+CLASSES = {
+    parts: {
+        "Part": {
+            "__init__": "(self, top, low=1)",
+            "plus": "(self, other)",
+            "minus": "(self, other)",
+            "times": "(self, other)",
+            "over": "(self, other)",
+            "sign": "(self)",
+            "__eq__": "(self, other)",
+            "__repr__": "(self)",
+        },
+        "Purse": {
+            "__init__": "(self, rows=())",
+            "at": "(self, coin)",
+            "coins": "(self)",
+            "plus": "(self, other)",
+            "minus": "(self, other)",
+            "times": "(self, part)",
+            "worth": "(self, rates)",
+            "__eq__": "(self, other)",
+            "__len__": "(self)",
+            "__repr__": "(self)",
+        },
+    },
+    worlds: {
+        "World": {
+            "__init__": "(self, coins, houses)",
+            "coin_rows": "(self)",
+            "house_rows": "(self)",
+        },
+    },
+    errors: {
+        "BadName": {"__init__": "(self, name)"},
+        "BadDay": {"__init__": "(self, day)"},
+        "BadNumber": {"__init__": "(self, number)"},
+        "BadCount": {"__init__": "(self, count)"},
+        "Taken": {"__init__": "(self, name)"},
+        "Short": {"__init__": "(self, number)"},
+        "Ring": {"__init__": "(self, number, ring)"},
+        "BadText": {"__init__": "(self, line)"},
+        "NoHouse": {"__init__": "(self, name)"},
+        "NoCoin": {"__init__": "(self, name)"},
+        "NoRow": {"__init__": "(self, name)"},
+        "NoTelling": {"__init__": "(self, number)"},
+        "NotRuled": {"__init__": "(self, name)"},
+    },
+}
+
+
+class Interface(unittest.TestCase):
+    def test_functions_are_defined_in_their_files(self):
+        for module, functions in FUNCTIONS.items():
+            for name, signature in functions.items():
+                with self.subTest(name=name):
+                    told = getattr(module, name)
+                    self.assertEqual(told.__module__, module.__name__)
+                    self.assertEqual(str(inspect.signature(told)), signature)
+
+    def test_classes_define_their_methods_themselves(self):
+        for module, classes in CLASSES.items():
+            for name, methods in classes.items():
+                told = getattr(module, name)
+                self.assertEqual(told.__module__, module.__name__)
+                for method, signature in methods.items():
+                    with self.subTest(name=name, method=method):
+                        self.assertIn(method, vars(told))
+                        self.assertEqual(str(inspect.signature(vars(told)[method])), signature)
+
+
+if __name__ == "__main__":
+    unittest.main()

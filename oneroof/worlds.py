@@ -9,6 +9,9 @@ MOST_HOUSES = 8
 MOST_LETTERS = 6
 LETTERS = "abcdefghijklmnopqrstuvwxyz"
 
+# The name by which strangers are told where a house could stand.
+STRANGERS = ""
+
 # For each kind of deed what its places behind the first one must be.
 PLACES = {
     "rate": ("day", "coin", "rate"),
@@ -79,6 +82,16 @@ def need_thing(world, thing):
         need_house(world, thing[1:])
     else:
         _need_name(thing)
+
+
+def shares_of(house):
+    """The thing that the house's shares are."""
+    return "@" + house
+
+
+def house_of(thing):
+    """The house whose shares the thing is; None where it is a good."""
+    return thing[1:] if thing.startswith("@") else None
 
 
 def need_deed(world, deed):

@@ -1,6 +1,7 @@
-"""Right deeds of all kinds, and what is wrong in each of their places."""
+"""Deeds for the tests: right ones of all kinds, wrong ones, and thrown rows of them."""
 
-from oneroof.errors import BadDay, BadName, BadNumber, NoCoin, NoHouse
+from oneroof.errors import BadDay, BadName, BadNumber, NoCoin, NoHouse, Ring, Short
+from oneroof.states import play
 from oneroof.worlds import World
 
 # The greatest amount and price.
@@ -132,3 +133,95 @@ def misshapen():
 def one_sided():
     """Deeds between a house and itself, right but for that."""
     return [with_place(deed, 3, deed[2]) for deed in RIGHT if deed[0] in ("hand", "lend", "fee")]
+
+
+THROWN_THINGS = ("corn", "@b", "b", "@c", "@a", "@d", "@b", "@c")
+
+
+class Dice:
+    """Throws that fall alike in every run."""
+
+    def __init__(self, seed):
+        self.now = seed * 7919 + 17
+
+    def throw(self, many):
+        self.now = (self.now * 1103515245 + 12345) % 2 ** 31
+        return (self.now >> 9) % many
+
+    def among(self, least, most):
+        return least + self.throw(most - least + 1)
+
+    def one_of(self, choices):
+        return choices[self.throw(len(choices))]
+
+    def shuffled(self, choices):
+        left, found = list(choices), []
+        while left:
+            found.append(left.pop(self.throw(len(left))))
+        return found
+
+
+def thrown_world():
+    """A world of few shares, so that houses come to rule one another by few deeds."""
+    return World([("x", 1000), ("y", 250)], [("d", 5), ("b", 4), ("a", 6), ("c", 3)])
+
+
+def thrown_deed(dice, day):
+    kind = dice.one_of(tuple(WRONG) + ("get",) * 5 + ("hand",) * 3)
+    giver, taker = dice.shuffled(("a", "b", "c", "d"))[:2]
+    thing = dice.one_of(THROWN_THINGS)
+    coin = dice.one_of(("x", "y"))
+    places = {
+        "rate": (coin, dice.among(1, 3000)),
+        "fund": (giver, coin, dice.one_of((-40, 7, 100))),
+        "gain": (giver, coin, dice.one_of((-30, 9, 80))),
+        "get": (giver, thing, dice.among(1, 4), coin, dice.among(0, 50)),
+        "sell": (giver, thing, dice.among(1, 3), coin, dice.among(0, 50)),
+        "hand": (giver, taker, thing, dice.among(1, 3), coin, dice.among(0, 50)),
+        "lend": (giver, taker, coin, dice.among(1, 9)),
+        "fee": (giver, taker, coin, dice.among(1, 9)),
+        "split": (giver, dice.among(2, 3)),
+        "pay": (giver, coin, dice.among(1, 5)),
+    }
+    return (kind, day) + places[kind]
+
+
+def thrown_numbers(dice, many, last_day):
+    """Rows (day, number) in the order of a walk, the numbers of a later day not always greater."""
+    numbers = dice.shuffled(range(1, 2 * many))[:many]
+    return sorted([(dice.among(0, last_day), number) for number in numbers])
+
+
+def thrown_rows(dice, many, last_day):
+    """Rows of right deeds in any order, by no means all of which can be walked."""
+    return dice.shuffled([(number, thrown_deed(dice, day)) for day, number in thrown_numbers(dice, many, last_day)])
+
+
+def walkable_rows(seed, many=40, last_day=4):
+    """Thrown rows in any order that can be walked to the end, with many kinds of pieces in many hands."""
+    dice = Dice(seed)
+    rows = []
+    for day, number in thrown_numbers(dice, many, last_day):
+        deed = thrown_deed(dice, day)
+        state = play(thrown_world(), rows, last_day)
+        lots = [(house, thing) for house in state.houses() for thing in THROWN_THINGS if state.many(house, thing)]
+        if deed[0] in ("sell", "hand") and lots:
+            giver, thing = dice.one_of(lots)
+            most = min(3, state.many(giver, thing))
+            deed = deed[:2] + (giver,) + deed[3:-4] + (thing, dice.among(1, most)) + deed[-2:]
+        if deed[2] != deed[3] and is_walked(rows + [(number, deed)]):
+            rows.append((number, deed))
+    return dice.shuffled(rows)
+
+
+def is_walked(rows):
+    try:
+        play(thrown_world(), rows, 29)
+    except (Short, Ring):
+        return False
+    return True
+
+
+def walk_order(rows, day):
+    """The rows up to the day's end in the order of the walk."""
+    return sorted([row for row in rows if row[1][1] <= day], key=lambda row: (row[1][1], row[0]))

@@ -3,7 +3,7 @@
 import inspect
 import unittest
 
-from oneroof import errors, parts, words, worlds
+from oneroof import errors, owners, packets, parts, paths, states, words, worlds
 
 FUNCTIONS = {
     worlds: {
@@ -16,6 +16,27 @@ FUNCTIONS = {
     words: {
         "deed_text": "(deed)",
         "read_deed": "(world, line)",
+    },
+    paths: {
+        "inner": "(link, since)",
+        "cut": "(path, since)",
+        "cost": "(count, path, *, since=None)",
+        "fresh": "(count, path, since)",
+    },
+    states: {
+        "play": "(world, deeds, day)",
+    },
+    owners: {
+        "ruled": "(state, head)",
+        "share": "(state, owners, house)",
+        "chains": "(state, top, low)",
+        "by_chains": "(state, top, low)",
+    },
+    packets: {
+        "pack": "(world, deeds, house, day, *, since=0, opening=False)",
+        "empty": "(day)",
+        "join": "(one, other)",
+        "together": "(packets)",
     },
 }
 
@@ -49,6 +70,38 @@ CLASSES = {
             "__init__": "(self, coins, houses)",
             "coin_rows": "(self)",
             "house_rows": "(self)",
+        },
+    },
+    states: {
+        "State": {
+            "purse": "(self, house)",
+            "claim": "(self, house, other)",
+            "pieces": "(self, house, thing)",
+            "many": "(self, house, thing)",
+            "made": "(self, house)",
+            "free": "(self, house)",
+            "rate": "(self, coin)",
+        },
+    },
+    packets: {
+        "Packet": {
+            "houses": "(self)",
+            "since_days": "(self)",
+            "money": "(self)",
+            "fund": "(self)",
+            "gain": "(self)",
+            "owed": "(self)",
+            "fees": "(self)",
+            "paid": "(self)",
+            "pieces": "(self)",
+            "sales": "(self)",
+            "dealings": "(self)",
+            "sold": "(self)",
+            "rows": "(self)",
+            "things": "(self)",
+            "__eq__": "(self, other)",
+            "__len__": "(self)",
+            "__repr__": "(self)",
         },
     },
     errors: {

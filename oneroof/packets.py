@@ -129,12 +129,20 @@ def pack(world, deeds, house, day, *, since=0, opening=False):
     # Played for an opening packet too: what the day's own deeds refuse is refused.
     state = play(world, deeds, day)
     if not opening:
-        sum_rows = _sums_had(state, house) + _sums_done(state, house)
-        return Packet(day, {house: since}, sum_rows, _lots_had(state, house) + _lots_sold(state, house))
+        return _packet_at(state, house, since)
     if day == 0:
         return Packet(day, {house: since}, [], [])
-    before = play(world, deeds, day - 1)
-    return Packet(day, {house: since}, _sums_had(before, house), _lots_had(before, house))
+    return _opening_behind(play(world, deeds, day - 1), house, since)
+
+
+def roof_packet(state, since):
+    """The joined packet of the houses under a roof on the state's day."""
+    return together([_packet_at(state, house, since[house]) for house in since])
+
+
+def roof_opening(before, since):
+    """The joined opening packet of the houses under a roof on the day behind the state's."""
+    return together([_opening_behind(before, house, since[house]) for house in since])
 
 
 def empty(day):
@@ -158,6 +166,15 @@ def together(packets):
     for packet in packets[1:]:
         joined = join(joined, packet)
     return joined
+
+
+def _packet_at(state, house, since):
+    sum_rows = _sums_had(state, house) + _sums_done(state, house)
+    return Packet(state.day, {house: since}, sum_rows, _lots_had(state, house) + _lots_sold(state, house))
+
+
+def _opening_behind(before, house, since):
+    return Packet(before.day + 1, {house: since}, _sums_had(before, house), _lots_had(before, house))
 
 
 def _sums_had(state, house):

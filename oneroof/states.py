@@ -15,7 +15,7 @@ class State:
         self._rates = dict(world.coin_rows())
         # By house and thing its pieces as (count, path), the eldest first.
         self._lots = {}
-        # By house all money that it had or spent: (day, kind, partner, thing, coin, amount).
+        # By house all money that it had or spent: (number, day, kind, partner, thing, coin, amount).
         self._moves = {house: [] for house in self._made}
         # By house all pieces that it sold: (day, partner, thing, count, path).
         self._sold = {house: [] for house in self._made}
@@ -26,7 +26,7 @@ class State:
     def claim(self, house, other):
         """What the house claims of the other one; below nought where it owes."""
         # What was lent went out of the purse, so the claim is the money's other side.
-        lent = [move for move in self._moves[house] if move[1] == "lend" and move[2] == other]
+        lent = [move for move in self._moves[house] if move[2] == "lend" and move[3] == other]
         return _purse_of(lent).times(Part(-1))
 
     def pieces(self, house, thing):
@@ -62,7 +62,11 @@ class State:
 
     def moves_of_day(self, house):
         """What the house had and spent on the state's day: (kind, partner, thing, coin, amount)."""
-        return [move[1:] for move in self._moves[house] if move[0] == self.day]
+        return [move[2:] for move in self._moves[house] if move[1] == self.day]
+
+    def moves_of_coin(self, house, coin):
+        """What the house had and spent of the coin since the first day: (number, amount)."""
+        return [(move[0], move[6]) for move in self._moves[house] if move[5] == coin]
 
     def sold_of_day(self, house):
         """What pieces the house sold on the state's day: (partner, thing, count, path)."""
@@ -70,16 +74,16 @@ class State:
 
 
 def _purse_of(moves):
-    return Purse([(coin, Part(amount)) for day, kind, partner, thing, coin, amount in moves])
+    return Purse([(coin, Part(amount)) for number, day, kind, partner, thing, coin, amount in moves])
 
 
-def _move_money(state, deed, payer, payee, coin, amount, thing=""):
+def _move_money(state, number, deed, payer, payee, coin, amount, thing=""):
     """Writes down on both sides what one pays to the other; strangers keep no purse."""
     kind, day = deed[:2]
     if payer != STRANGERS:
-        state._moves[payer].append((day, kind, payee, thing, coin, -amount))
+        state._moves[payer].append((number, day, kind, payee, thing, coin, -amount))
     if payee != STRANGERS:
-        state._moves[payee].append((day, kind, payer, thing, coin, amount))
+        state._moves[payee].append((number, day, kind, payer, thing, coin, amount))
 
 
 def _do_rate(state, number, deed):
@@ -89,12 +93,12 @@ def _do_rate(state, number, deed):
 
 def _do_with_strangers(state, number, deed):
     house, coin, amount = deed[2:]
-    _move_money(state, deed, STRANGERS, house, coin, amount)
+    _move_money(state, number, deed, STRANGERS, house, coin, amount)
 
 
 def _do_between_houses(state, number, deed):
     payer, payee, coin, amount = deed[2:]
-    _move_money(state, deed, payer, payee, coin, amount)
+    _move_money(state, number, deed, payer, payee, coin, amount)
 
 
 def _do_get(state, number, deed):
@@ -125,8 +129,8 @@ def _split_path(path, times):
 def _do_pay(state, number, deed):
     house, coin, per = deed[2:]
     for holder in state.houses():
-        _move_money(state, deed, house, holder, coin, per * state.many(holder, shares_of(house)))
-    _move_money(state, deed, house, STRANGERS, coin, per * state.free(house))
+        _move_money(state, number, deed, house, holder, coin, per * state.many(holder, shares_of(house)))
+    _move_money(state, number, deed, house, STRANGERS, coin, per * state.free(house))
 
 
 def _trade(state, number, deed, giver, taker):
@@ -144,7 +148,7 @@ def _trade(state, number, deed, giver, taker):
         link = (number, day, giver, taker, coin, price, count)
         # Each deed's link is its own, so no two of a house's lots of a thing have one path.
         state._lots[taker, thing] = state.pieces(taker, thing) + [(many, path + (link,)) for many, path in given]
-    _move_money(state, deed, taker, giver, coin, price, thing)
+    _move_money(state, number, deed, taker, giver, coin, price, thing)
 
 
 def _can_give(state, giver, thing, count):
@@ -205,6 +209,12 @@ def play(world, deeds, day):
         act = _ACTS[deed[0]]
         act(state, number, deed)
     return state
+
+
+def plays(world, deeds, day):
+    """The states at the end of each day up to that one."""
+    need_day(day)
+    return [play(world, deeds, at) for at in range(day + 1)]
 
 
 def _turn(row):

@@ -3,7 +3,7 @@
 import inspect
 import unittest
 
-from oneroof import errors, owners, packets, parts, paths, states, words, worlds
+from oneroof import books, errors, owners, packets, parts, paths, sheets, stakes, states, steps, words, worlds
 
 FUNCTIONS = {
     worlds: {
@@ -37,6 +37,29 @@ FUNCTIONS = {
         "empty": "(day)",
         "join": "(one, other)",
         "together": "(packets)",
+    },
+    stakes: {
+        "own_worth": "(state, since, house)",
+        "worth_of": "(state, since, house)",
+        "parts_of": "(state, since, head)",
+    },
+    steps: {
+        "spells": "(world, deeds, head, day)",
+        "coming": "(world, deeds, head, house, day)",
+    },
+    books: {
+        "book_of": "(world, deeds, head, day)",
+        "differ": "(one, other)",
+        "laid": "(rows, moves)",
+        "rates": "(world, deeds, day)",
+        "told_in": "(purse, by_rates, *, into=None)",
+        "earned": "(world, deeds, head, day)",
+        "turned": "(world, deeds, head, day)",
+    },
+    sheets: {
+        "money_sheet": "(world, deeds, houses, coin, day)",
+        "fits": "(world, deeds, houses, coin, day, *, total, sheet)",
+        "thing_sheet": "(world, deeds, head, thing, day)",
     },
 }
 
@@ -98,6 +121,25 @@ CLASSES = {
             "dealings": "(self)",
             "sold": "(self)",
             "rows": "(self)",
+            "things": "(self)",
+            "__eq__": "(self, other)",
+            "__len__": "(self)",
+            "__repr__": "(self)",
+        },
+    },
+    steps: {
+        "Coming": {
+            "surplus": "(self)",
+            "step": "(self)",
+            "__eq__": "(self, other)",
+            "__repr__": "(self)",
+        },
+    },
+    books: {
+        "Book": {
+            "since_days": "(self)",
+            "rows": "(self)",
+            "row": "(self, name)",
             "things": "(self)",
             "__eq__": "(self, other)",
             "__len__": "(self)",

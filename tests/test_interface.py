@@ -3,7 +3,17 @@
 import inspect
 import unittest
 
-from oneroof import books, errors, owners, packets, parts, paths, sheets, stakes, states, steps, words, worlds
+from oneroof import (
+    books, desks, errors, forms, owners, packets, pages, parts, paths, roofs, sheets, stakes, states, steps, words, worlds,
+)
+
+CONSTANTS = {
+    worlds: {"MOST_DAY": 29, "MOST_DEEDS": 60},
+    books: {
+        "ROWS": ("money", "owed", "goods", "held", "fund", "gain", "sales", "fees", "paid", "shares", "came"),
+    },
+    roofs: {"MOST_GIVEN": 30},
+}
 
 FUNCTIONS = {
     worlds: {
@@ -60,6 +70,15 @@ FUNCTIONS = {
         "money_sheet": "(world, deeds, houses, coin, day)",
         "fits": "(world, deeds, houses, coin, day, *, total, sheet)",
         "thing_sheet": "(world, deeds, head, thing, day)",
+    },
+    forms: {
+        "read_form": "(text)",
+        "show_form": "(terms)",
+        "form_worth": "(terms, rows)",
+    },
+    pages: {
+        "write_page": "(roof)",
+        "read_page": "(text)",
     },
 }
 
@@ -146,6 +165,34 @@ CLASSES = {
             "__repr__": "(self)",
         },
     },
+    roofs: {
+        "Roof": {
+            "__init__": "(self, world)",
+            "tell": "(self, deed)",
+            "right": "(self, number, deed)",
+            "strike": "(self, number)",
+            "tell_all": "(self, deeds)",
+            "undo": "(self)",
+            "redo": "(self)",
+            "tellings": "(self)",
+            "stands": "(self, *, known=None)",
+            "book": "(self, head, day, *, known=None)",
+            "give": "(self, head, day)",
+            "given": "(self)",
+            "moved": "(self, number)",
+            "what_if": "(self, deeds, head, day)",
+            "twin": "(self)",
+            "__eq__": "(self, other)",
+            "__len__": "(self)",
+            "__repr__": "(self)",
+        },
+    },
+    desks: {
+        "Desk": {
+            "__init__": "(self, roof)",
+            "ask": "(self, line)",
+        },
+    },
     errors: {
         "BadName": {"__init__": "(self, name)"},
         "BadDay": {"__init__": "(self, day)"},
@@ -165,6 +212,13 @@ CLASSES = {
 
 
 class Interface(unittest.TestCase):
+    def test_constants(self):
+        for module, constants in CONSTANTS.items():
+            for name, value in constants.items():
+                with self.subTest(name=name):
+                    self.assertEqual(getattr(module, name), value)
+                    self.assertIs(type(getattr(module, name)), type(value))
+
     def test_functions_are_defined_in_their_files(self):
         for module, functions in FUNCTIONS.items():
             for name, signature in functions.items():

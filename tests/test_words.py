@@ -1,9 +1,9 @@
-"""Point 9: deeds as text."""
+"""Point 9: deeds as text, and of points 44 and 45 the lines by which deeds are told to a roof."""
 
 import unittest
 
 from oneroof.errors import BadText
-from oneroof.words import deed_text, read_deed
+from oneroof.words import deed_text, read_deed, read_number, read_telling, telling_text
 from tests.deeds import MOST, RIGHT, WRONG, first_of, misshapen, one_sided, small_world, wrong_places
 
 TEXTS = (
@@ -119,6 +119,35 @@ class Reading(unittest.TestCase):
         read_deed(world, "split 6 a 5")
         self.assertEqual(world.house_rows(), [("a", 100), ("b", 40), ("c", 1)])
         self.assertEqual(world.coin_rows(), [("x", 1000), ("y", 250)])
+
+
+class Tellings(unittest.TestCase):
+    TOLD = [("tell", TEXTS[0][0]), ("right", 12, TEXTS[1][0]), ("strike", 7)]
+    LINES = ["tell rate 5 x 1500", "right 12 fund 0 a y -1000000000000", "strike 7"]
+
+    def refused(self, asked, *more):
+        with self.subTest(more=more):
+            with self.assertRaises(BadText) as caught:
+                asked(*more)
+            self.assertEqual(vars(caught.exception), {"line": 1})
+
+    def test_written_and_read(self):
+        for told, line in zip(self.TOLD, self.LINES):
+            self.assertEqual(telling_text(told), line)
+            self.assertEqual(read_telling(small_world(), line), told)
+
+    def test_lines_that_are_none_of_these(self):
+        for line in ("", "tell", "tell ", "right 12", "right x split 6 a 5", "right 12  split 6 a 5", "strike", "strike 7 7", "undo",
+                     "split 6 a 5", "tell split 30 a 5", "write 12 split 6 a 5"):
+            self.refused(read_telling, small_world(), line)
+
+    def test_numbers_of_nine_figures_and_of_ten(self):
+        for number in (0, 7, -7, 999999999, -999999999):
+            self.assertEqual(read_number(str(number)), number)
+            self.assertEqual(read_telling(small_world(), f"strike {number}"), ("strike", number))
+        for word in ("1000000000", "-1000000000", "", "-", "x", "07", "-0", "+7", " 7", "7 ", "9" * 5000):
+            self.refused(read_number, word)
+            self.refused(read_telling, small_world(), f"right {word} split 6 a 5")
 
 
 if __name__ == "__main__":
